@@ -8,6 +8,7 @@ import (
 
 	"allotment/api"
 	"allotment/plan"
+	"allotment/probe"
 	"allotment/words"
 )
 
@@ -17,12 +18,6 @@ var little = api.Shape{Pages: 2, Clients: 2, Mag: 3}
 // great is the greatest shape that may be.
 var great = api.Shape{Pages: api.MaxPages, Clients: api.MaxClients, Mag: api.MaxMag}
 
-// machine is what both kinds of machines have.
-type machine interface {
-	Done() bool
-	Step(w *words.Words)
-}
-
 // item is a word of a magazine, and what it says: an entry (of a page, a slot, a class), or none.
 type item struct {
 	word              uint64
@@ -30,13 +25,10 @@ type item struct {
 	is                bool
 }
 
-// entry is the word of an entry.
-func entry(page, slot, class int) uint64 {
-	return 1 + 16*uint64(page) + 4096*uint64(slot) + 1<<20*uint64(class)
-}
-
 // of is an item that is an entry.
-func of(page, slot, class int) item { return item{entry(page, slot, class), page, slot, class, true} }
+func of(page, slot, class int) item {
+	return item{probe.Entry(page, slot, class), page, slot, class, true}
+}
 
 // items is one of each kind, for a shape of 2 pages: an entry of each class, no entry, and words that are none.
 func items() []item {
@@ -50,8 +42,8 @@ func items() []item {
 // noEntries is words that are not 0, and are no entry of a shape of 2 pages: beyond its pages, beyond a class's slots, beyond the classes, of another kind, with a bit beyond the fields.
 func noEntries() []uint64 {
 	return []uint64{
-		entry(2, 0, 0), entry(255, 1, 3), entry(0, 16, 0), entry(0, 8, 1), entry(1, 4, 2), entry(0, 2, 3), entry(0, 0, 4), entry(1, 1, 255),
-		2, 16, entry(1, 2, 0) + 1, entry(1, 2, 0) - 1, 1<<28 + 1, 1<<63 + 1, math.MaxUint64,
+		probe.Entry(2, 0, 0), probe.Entry(255, 1, 3), probe.Entry(0, 16, 0), probe.Entry(0, 8, 1), probe.Entry(1, 4, 2), probe.Entry(0, 2, 3), probe.Entry(0, 0, 4), probe.Entry(1, 1, 255),
+		2, 16, probe.Entry(1, 2, 0) + 1, probe.Entry(1, 2, 0) - 1, 1<<28 + 1, 1<<63 + 1, math.MaxUint64,
 	}
 }
 
@@ -69,7 +61,7 @@ func laid(t *testing.T, s api.Shape, c int, row ...uint64) *words.Words {
 	t.Helper()
 	w := words.New(plan.Words(s))
 	for at := range w.Len() {
-		w.Put(at, entry(0, 0, at%api.Classes))
+		w.Put(at, probe.Entry(0, 0, at%api.Classes))
 	}
 	if len(row) != s.Mag {
 		t.Fatalf("%d words for a magazine of %d", len(row), s.Mag)
@@ -78,61 +70,6 @@ func laid(t *testing.T, s api.Shape, c int, row ...uint64) *words.Words {
 		w.Put(plan.Mag(s, c, i), x)
 	}
 	return w
-}
-
-// loads is client c's Load at a place.
-func loads(c, at int, was uint64) api.Access {
-	return api.Access{Client: c, Kind: api.Load, At: at, Was: was, OK: true}
-}
-
-// stores is client c's Store at a place.
-func stores(c, at int, was, put uint64) api.Access {
-	return api.Access{Client: c, Kind: api.Store, At: at, Was: was, Put: put, OK: true}
-}
-
-// step asks that the machine's Step is that one access, and that nothing beside it is touched.
-func step(t *testing.T, m machine, w *words.Words, want api.Access) {
-	t.Helper()
-	row, steps := w.All(), w.Steps()
-	m.Step(w)
-	if got := w.Steps() - steps; got != 1 || w.Last() != want {
-		t.Fatalf("%d accesses, the last one %+v, want one: %+v", got, w.Last(), want)
-	}
-	if want.Kind == api.Store {
-		row[want.At] = want.Put
-	}
-	if got := w.All(); !slices.Equal(got, row) {
-		t.Fatalf("behind %+v the words are %v, want %v", want, got, row)
-	}
-}
-
-// still asks that a Step does no access.
-func still(t *testing.T, m machine, w *words.Words) {
-	t.Helper()
-	row, steps := w.All(), w.Steps()
-	m.Step(w)
-	if w.Steps() != steps || !slices.Equal(w.All(), row) {
-		t.Fatalf("a Step that does nothing did %+v", w.Last())
-	}
-}
-
-// panicked calls f and tells whether it panicked.
-func panicked(f func()) (did bool) {
-	defer func() { did = recover() != nil }()
-	f()
-	return false
-}
-
-// stuck asks that a Step panics, and is no access.
-func stuck(t *testing.T, m machine, w *words.Words) {
-	t.Helper()
-	row, steps := w.All(), w.Steps()
-	if !panicked(func() { m.Step(w) }) {
-		t.Fatalf("a Step on %d words does not panic", w.Len())
-	}
-	if w.Steps() != steps || !slices.Equal(w.All(), row) {
-		t.Fatalf("a Step that panicked did %+v", w.Last())
-	}
 }
 
 // takerIs asks for Done and Found.
@@ -163,21 +100,13 @@ func under(t *testing.T, k *Taker) {
 // bare asks that a Taker is Done with nothing found, and does nothing more.
 func bare(t *testing.T, k *Taker, w *words.Words) {
 	t.Helper()
-	takerIs(t, k, true, 0, 0, false)
-	for _, w := range []*words.Words{w, w, words.New(0), nil} {
-		still(t, k, w)
-		takerIs(t, k, true, 0, 0, false)
-	}
+	probe.Idle(t, k, w, func() { takerIs(t, k, true, 0, 0, false) })
 }
 
 // refused asks that a Putter is Done and did not put, and does nothing more.
 func refused(t *testing.T, p *Putter, w *words.Words) {
 	t.Helper()
-	putterIs(t, p, true, false)
-	for _, w := range []*words.Words{w, w, words.New(0), nil} {
-		still(t, p, w)
-		putterIs(t, p, true, false)
-	}
+	probe.Idle(t, p, w, func() { putterIs(t, p, true, false) })
 }
 
 // takes runs a Taker over the words, and asks for each access and what is Found at each moment.
@@ -186,13 +115,9 @@ func takes(t *testing.T, s api.Shape, c, class int, w *words.Words, want []api.A
 	k := NewTaker(s, c, class)
 	for _, a := range want {
 		under(t, k)
-		step(t, k, w, a)
+		probe.Step(t, k, w, a)
 	}
-	takerIs(t, k, true, page, slot, ok)
-	for _, w := range []*words.Words{w, w, words.New(0), nil} {
-		still(t, k, w)
-		takerIs(t, k, true, page, slot, ok)
-	}
+	probe.Idle(t, k, w, func() { takerIs(t, k, true, page, slot, ok) })
 }
 
 // puts runs a Putter over the words, and asks for each access and whether it is Put at each moment.
@@ -201,13 +126,9 @@ func puts(t *testing.T, s api.Shape, c int, x item, w *words.Words, want []api.A
 	p := NewPutter(s, c, x.page, x.slot, x.class)
 	for _, a := range want {
 		putterIs(t, p, false, false)
-		step(t, p, w, a)
+		probe.Step(t, p, w, a)
 	}
-	putterIs(t, p, true, ok)
-	for _, w := range []*words.Words{w, w, words.New(0), nil} {
-		still(t, p, w)
-		putterIs(t, p, true, ok)
-	}
+	probe.Idle(t, p, w, func() { putterIs(t, p, true, ok) })
 }
 
 // takesOf asks that a Taker does what the chapter says of a magazine of these items.
@@ -217,9 +138,9 @@ func takesOf(t *testing.T, s api.Shape, c, class int, l []item) {
 	var last item
 	for i, x := range l {
 		at := plan.Mag(s, c, i)
-		want = append(want, loads(c, at, x.word))
+		want = append(want, probe.Loads(c, at, x.word))
 		if x.is && x.class == class {
-			want = append(want, stores(c, at, x.word, 0))
+			want = append(want, probe.Stores(c, at, x.word, 0))
 			last = x
 			break
 		}
@@ -234,9 +155,9 @@ func putsOf(t *testing.T, s api.Shape, c int, x item, row []uint64) {
 	put := false
 	for i, was := range row {
 		at := plan.Mag(s, c, i)
-		want = append(want, loads(c, at, was))
+		want = append(want, probe.Loads(c, at, was))
 		if was == 0 {
-			want = append(want, stores(c, at, 0, x.word))
+			want = append(want, probe.Stores(c, at, 0, x.word))
 			put = true
 			break
 		}
@@ -244,58 +165,38 @@ func putsOf(t *testing.T, s api.Shape, c int, x item, row []uint64) {
 	puts(t, s, c, x, laid(t, s, c, row...), want, put)
 }
 
-// wrongShapes is shapes that may not be.
-func wrongShapes() []api.Shape {
-	l := []api.Shape{{}}
-	for _, n := range []int{0, -1, math.MinInt, math.MinInt + 1, math.MaxInt, math.MaxInt - 1, 1 << 32, 1<<32 + 1} {
-		l = append(l, api.Shape{Pages: n, Clients: 2, Mag: 3}, api.Shape{Pages: 2, Clients: n, Mag: 3})
-		if n != 0 {
-			l = append(l, api.Shape{Pages: 2, Clients: 2, Mag: n})
-		}
-	}
-	return append(l,
-		api.Shape{Pages: api.MaxPages + 1, Clients: 2, Mag: 3},
-		api.Shape{Pages: 2, Clients: api.MaxClients + 1, Mag: 3},
-		api.Shape{Pages: 2, Clients: 2, Mag: api.MaxMag + 1})
-}
-
-// beyond is numbers below 0, and n and more; some are in place by their lowest bits.
-func beyond(n int) []int {
-	return []int{-1, -2, -256, n, n + 1, 256, 257, 4096, 1 << 20, 1 << 32, 1<<32 + 1, math.MinInt, math.MinInt + 1, math.MaxInt, math.MaxInt - 1}
-}
-
 // spread is more words than any shape has, each of them free or an entry of class 0 by turns.
 func spread() *words.Words {
 	w := words.New(api.MaxWords)
 	for at := 0; at < w.Len(); at += 2 {
-		w.Put(at, entry(0, 0, 0))
+		w.Put(at, probe.Entry(0, 0, 0))
 	}
 	return w
 }
 
 // The chapter's example.
 func TestExample(t *testing.T) {
-	row := []uint64{0, entry(0, 4, 1), entry(1, 2, 0)}
+	row := []uint64{0, probe.Entry(0, 4, 1), probe.Entry(1, 2, 0)}
 	takes(t, little, 0, 0, laid(t, little, 0, row...), []api.Access{
-		loads(0, 36, 0), loads(0, 37, entry(0, 4, 1)), loads(0, 38, entry(1, 2, 0)), stores(0, 38, entry(1, 2, 0), 0),
+		probe.Loads(0, 36, 0), probe.Loads(0, 37, probe.Entry(0, 4, 1)), probe.Loads(0, 38, probe.Entry(1, 2, 0)), probe.Stores(0, 38, probe.Entry(1, 2, 0), 0),
 	}, 1, 2, true)
 }
 
 // P8.1: the class that is looked for is first, in the midst, last, there twice, not there.
 func TestTaker(t *testing.T) {
-	a, b, other, none := entry(1, 3, 2), entry(0, 1, 2), entry(0, 0, 0), uint64(2)
+	a, b, other, none := probe.Entry(1, 3, 2), probe.Entry(0, 1, 2), probe.Entry(0, 0, 0), uint64(2)
 	for name, x := range map[string]struct {
 		row        []uint64
 		want       []api.Access
 		page, slot int
 		ok         bool
 	}{
-		"first":        {[]uint64{a, 0, other}, []api.Access{loads(1, 39, a), stores(1, 39, a, 0)}, 1, 3, true},
-		"in the midst": {[]uint64{other, a, 0}, []api.Access{loads(1, 39, other), loads(1, 40, a), stores(1, 40, a, 0)}, 1, 3, true},
-		"last":         {[]uint64{none, 0, a}, []api.Access{loads(1, 39, none), loads(1, 40, 0), loads(1, 41, a), stores(1, 41, a, 0)}, 1, 3, true},
-		"twice":        {[]uint64{0, b, a}, []api.Access{loads(1, 39, 0), loads(1, 40, b), stores(1, 40, b, 0)}, 0, 1, true},
-		"not there":    {[]uint64{other, 0, none}, []api.Access{loads(1, 39, other), loads(1, 40, 0), loads(1, 41, none)}, 0, 0, false},
-		"nothing":      {[]uint64{0, 0, 0}, []api.Access{loads(1, 39, 0), loads(1, 40, 0), loads(1, 41, 0)}, 0, 0, false},
+		"first":        {[]uint64{a, 0, other}, []api.Access{probe.Loads(1, 39, a), probe.Stores(1, 39, a, 0)}, 1, 3, true},
+		"in the midst": {[]uint64{other, a, 0}, []api.Access{probe.Loads(1, 39, other), probe.Loads(1, 40, a), probe.Stores(1, 40, a, 0)}, 1, 3, true},
+		"last":         {[]uint64{none, 0, a}, []api.Access{probe.Loads(1, 39, none), probe.Loads(1, 40, 0), probe.Loads(1, 41, a), probe.Stores(1, 41, a, 0)}, 1, 3, true},
+		"twice":        {[]uint64{0, b, a}, []api.Access{probe.Loads(1, 39, 0), probe.Loads(1, 40, b), probe.Stores(1, 40, b, 0)}, 0, 1, true},
+		"not there":    {[]uint64{other, 0, none}, []api.Access{probe.Loads(1, 39, other), probe.Loads(1, 40, 0), probe.Loads(1, 41, none)}, 0, 0, false},
+		"nothing":      {[]uint64{0, 0, 0}, []api.Access{probe.Loads(1, 39, 0), probe.Loads(1, 40, 0), probe.Loads(1, 41, 0)}, 0, 0, false},
 	} {
 		t.Run(name, func(t *testing.T) { takes(t, little, 1, 2, laid(t, little, 1, x.row...), x.want, x.page, x.slot, x.ok) })
 	}
@@ -303,20 +204,20 @@ func TestTaker(t *testing.T) {
 
 // P8.2: the place that is free is first, in the midst, last; there are several; there is none.
 func TestPutter(t *testing.T) {
-	a, b, none := entry(1, 3, 2), entry(0, 0, 0), uint64(2)
+	a, b, none := probe.Entry(1, 3, 2), probe.Entry(0, 0, 0), uint64(2)
 	x := of(1, 7, 1)
 	for name, c := range map[string]struct {
 		row  []uint64
 		want []api.Access
 		ok   bool
 	}{
-		"first":        {[]uint64{0, a, b}, []api.Access{loads(1, 39, 0), stores(1, 39, 0, x.word)}, true},
-		"in the midst": {[]uint64{a, 0, b}, []api.Access{loads(1, 39, a), loads(1, 40, 0), stores(1, 40, 0, x.word)}, true},
-		"last":         {[]uint64{a, none, 0}, []api.Access{loads(1, 39, a), loads(1, 40, none), loads(1, 41, 0), stores(1, 41, 0, x.word)}, true},
-		"several":      {[]uint64{none, 0, 0}, []api.Access{loads(1, 39, none), loads(1, 40, 0), stores(1, 40, 0, x.word)}, true},
-		"all":          {[]uint64{0, 0, 0}, []api.Access{loads(1, 39, 0), stores(1, 39, 0, x.word)}, true},
-		"full":         {[]uint64{a, b, x.word}, []api.Access{loads(1, 39, a), loads(1, 40, b), loads(1, 41, x.word)}, false},
-		"no entries":   {[]uint64{none, 16, math.MaxUint64}, []api.Access{loads(1, 39, none), loads(1, 40, 16), loads(1, 41, math.MaxUint64)}, false},
+		"first":        {[]uint64{0, a, b}, []api.Access{probe.Loads(1, 39, 0), probe.Stores(1, 39, 0, x.word)}, true},
+		"in the midst": {[]uint64{a, 0, b}, []api.Access{probe.Loads(1, 39, a), probe.Loads(1, 40, 0), probe.Stores(1, 40, 0, x.word)}, true},
+		"last":         {[]uint64{a, none, 0}, []api.Access{probe.Loads(1, 39, a), probe.Loads(1, 40, none), probe.Loads(1, 41, 0), probe.Stores(1, 41, 0, x.word)}, true},
+		"several":      {[]uint64{none, 0, 0}, []api.Access{probe.Loads(1, 39, none), probe.Loads(1, 40, 0), probe.Stores(1, 40, 0, x.word)}, true},
+		"all":          {[]uint64{0, 0, 0}, []api.Access{probe.Loads(1, 39, 0), probe.Stores(1, 39, 0, x.word)}, true},
+		"full":         {[]uint64{a, b, x.word}, []api.Access{probe.Loads(1, 39, a), probe.Loads(1, 40, b), probe.Loads(1, 41, x.word)}, false},
+		"no entries":   {[]uint64{none, 16, math.MaxUint64}, []api.Access{probe.Loads(1, 39, none), probe.Loads(1, 40, 16), probe.Loads(1, 41, math.MaxUint64)}, false},
 	} {
 		t.Run(name, func(t *testing.T) { puts(t, little, 1, x, laid(t, little, 1, c.row...), c.want, c.ok) })
 	}
@@ -398,7 +299,7 @@ func TestTakerPassesByNoEntries(t *testing.T) {
 
 // P8.2: what is no entry is no free place either.
 func TestPutterPassesByNoEntries(t *testing.T) {
-	for _, w := range append(noEntries(), entry(0, 0, 0)) {
+	for _, w := range append(noEntries(), probe.Entry(0, 0, 0)) {
 		putsOf(t, little, 0, of(1, 0, 0), []uint64{w, w, 0})
 	}
 }
@@ -445,9 +346,9 @@ func TestTakerFindsWhatPutterPut(t *testing.T) {
 					p.Step(w)
 				}
 				putterIs(t, p, true, true)
-				word := entry(page, slot, class)
-				takes(t, little, 1, class, w, []api.Access{loads(1, 39, word), stores(1, 39, word, 0)}, page, slot, true)
-				takes(t, little, 1, class, w, []api.Access{loads(1, 39, 0), loads(1, 40, 0), loads(1, 41, 0)}, 0, 0, false)
+				word := probe.Entry(page, slot, class)
+				takes(t, little, 1, class, w, []api.Access{probe.Loads(1, 39, word), probe.Stores(1, 39, word, 0)}, page, slot, true)
+				takes(t, little, 1, class, w, []api.Access{probe.Loads(1, 39, 0), probe.Loads(1, 40, 0), probe.Loads(1, 41, 0)}, 0, 0, false)
 			}
 		}
 	}
@@ -455,7 +356,7 @@ func TestTakerFindsWhatPutterPut(t *testing.T) {
 
 // A machine: of a shape that may not be it is Done at once.
 func TestWrongShapes(t *testing.T) {
-	for _, s := range wrongShapes() {
+	for _, s := range probe.Shapes() {
 		for class := range api.Classes {
 			bare(t, NewTaker(s, 0, class), spread())
 			refused(t, NewPutter(s, 0, 0, 0, class), spread())
@@ -466,7 +367,7 @@ func TestWrongShapes(t *testing.T) {
 // A machine: of a client that is not within the shape it is Done at once.
 func TestWrongClients(t *testing.T) {
 	for _, s := range []api.Shape{little, great, {Pages: 1, Clients: 1, Mag: 1}} {
-		for _, c := range beyond(s.Clients) {
+		for _, c := range probe.Beyond(s.Clients) {
 			for class := range api.Classes {
 				bare(t, NewTaker(s, c, class), spread())
 				refused(t, NewPutter(s, c, 0, 0, class), spread())
@@ -478,10 +379,10 @@ func TestWrongClients(t *testing.T) {
 // A machine: of a class that is none it is Done at once.
 func TestWrongClasses(t *testing.T) {
 	for _, s := range []api.Shape{little, great} {
-		for _, class := range append(beyond(api.Classes), 255) {
+		for _, class := range append(probe.Beyond(api.Classes), 255) {
 			bare(t, NewTaker(s, 0, class), spread())
 			refused(t, NewPutter(s, 0, 0, 0, class), spread())
-			w := laid(t, s, 0, slices.Repeat([]uint64{entry(0, 0, class&255)}, s.Mag)...)
+			w := laid(t, s, 0, slices.Repeat([]uint64{probe.Entry(0, 0, class&255)}, s.Mag)...)
 			bare(t, NewTaker(s, 0, class), w)
 		}
 	}
@@ -490,7 +391,7 @@ func TestWrongClasses(t *testing.T) {
 // A machine: a Putter of a page that is not within the shape is Done at once.
 func TestWrongPages(t *testing.T) {
 	for _, s := range []api.Shape{little, great, {Pages: 1, Clients: 1, Mag: 1}} {
-		for _, page := range append(beyond(s.Pages), 255) {
+		for _, page := range append(probe.Beyond(s.Pages), 255) {
 			for class := range api.Classes {
 				refused(t, NewPutter(s, 0, page, 0, class), spread())
 			}
@@ -501,7 +402,7 @@ func TestWrongPages(t *testing.T) {
 // A machine: a Putter of a slot that is not below Slots of its class is Done at once.
 func TestWrongSlots(t *testing.T) {
 	for class, slots := range []int{16, 8, 4, 2} {
-		for _, slot := range append(beyond(slots), 16, 255) {
+		for _, slot := range append(probe.Beyond(slots), 16, 255) {
 			refused(t, NewPutter(little, 0, 1, slot, class), spread())
 			refused(t, NewPutter(great, api.MaxClients-1, api.MaxPages-1, slot, class), spread())
 		}
@@ -511,7 +412,7 @@ func TestWrongSlots(t *testing.T) {
 // A machine: several arguments that may not be.
 func TestSeveralWrong(t *testing.T) {
 	for _, n := range []int{-1, math.MinInt, math.MaxInt, 1 << 32} {
-		for _, s := range append(wrongShapes(), little) {
+		for _, s := range append(probe.Shapes(), little) {
 			bare(t, NewTaker(s, n, n), spread())
 			refused(t, NewPutter(s, n, n, n, n), spread())
 		}
@@ -520,25 +421,25 @@ func TestSeveralWrong(t *testing.T) {
 
 // R7: nil words. The Step panics, and the machine stands where it stood.
 func TestNilWords(t *testing.T) {
-	w := laid(t, little, 0, 0, entry(1, 2, 0), 0)
+	w := laid(t, little, 0, 0, probe.Entry(1, 2, 0), 0)
 	k := NewTaker(little, 0, 0)
-	for _, a := range []api.Access{loads(0, 36, 0), loads(0, 37, entry(1, 2, 0)), stores(0, 37, entry(1, 2, 0), 0)} {
+	for _, a := range []api.Access{probe.Loads(0, 36, 0), probe.Loads(0, 37, probe.Entry(1, 2, 0)), probe.Stores(0, 37, probe.Entry(1, 2, 0), 0)} {
 		for range 2 {
-			stuck(t, k, nil)
+			probe.Stuck(t, k, nil)
 			under(t, k)
 		}
-		step(t, k, w, a)
+		probe.Step(t, k, w, a)
 	}
 	takerIs(t, k, true, 1, 2, true)
 
 	w = laid(t, little, 0, 5, 0, 0)
 	p := NewPutter(little, 0, 1, 2, 0)
-	for _, a := range []api.Access{loads(0, 36, 5), loads(0, 37, 0), stores(0, 37, 0, entry(1, 2, 0))} {
+	for _, a := range []api.Access{probe.Loads(0, 36, 5), probe.Loads(0, 37, 0), probe.Stores(0, 37, 0, probe.Entry(1, 2, 0))} {
 		for range 2 {
-			stuck(t, p, nil)
+			probe.Stuck(t, p, nil)
 			putterIs(t, p, false, false)
 		}
-		step(t, p, w, a)
+		probe.Step(t, p, w, a)
 	}
 	putterIs(t, p, true, true)
 }
@@ -547,7 +448,7 @@ func TestNilWords(t *testing.T) {
 func TestTooFewWords(t *testing.T) {
 	s := api.Shape{Pages: 1, Clients: 2, Mag: 4}
 	first := plan.Mag(s, 1, 0)
-	last := entry(0, 9, 0)
+	last := probe.Entry(0, 9, 0)
 	for n := range plan.Words(s) + 1 {
 		few, all := words.New(n), laid(t, s, 1, 6, 6, 6, last)
 		for at := range n {
@@ -557,20 +458,20 @@ func TestTooFewWords(t *testing.T) {
 		for i := range 4 {
 			under(t, k)
 			if first+i >= n {
-				stuck(t, k, few)
+				probe.Stuck(t, k, few)
 				under(t, k)
-				step(t, k, all, loads(1, first+i, all.Look(first+i)))
+				probe.Step(t, k, all, probe.Loads(1, first+i, all.Look(first+i)))
 				continue
 			}
-			step(t, k, few, loads(1, first+i, few.Look(first+i)))
+			probe.Step(t, k, few, probe.Loads(1, first+i, few.Look(first+i)))
 		}
 		under(t, k)
 		if n < plan.Words(s) {
-			stuck(t, k, few)
+			probe.Stuck(t, k, few)
 			under(t, k)
-			step(t, k, all, stores(1, first+3, last, 0))
+			probe.Step(t, k, all, probe.Stores(1, first+3, last, 0))
 		} else {
-			step(t, k, few, stores(1, first+3, last, 0))
+			probe.Step(t, k, few, probe.Stores(1, first+3, last, 0))
 		}
 		takerIs(t, k, true, 0, 9, true)
 	}
@@ -584,15 +485,15 @@ func TestTooFewWordsToPut(t *testing.T) {
 		few, all := words.New(n), laid(t, s, 1, 6, 0)
 		p := NewPutter(s, 1, 0, 1, 3)
 		if n <= first {
-			stuck(t, p, few)
+			probe.Stuck(t, p, few)
 			putterIs(t, p, false, false)
 		}
-		step(t, p, all, loads(1, first, 6))
-		stuck(t, p, few)
-		step(t, p, all, loads(1, first+1, 0))
-		stuck(t, p, few)
+		probe.Step(t, p, all, probe.Loads(1, first, 6))
+		probe.Stuck(t, p, few)
+		probe.Step(t, p, all, probe.Loads(1, first+1, 0))
+		probe.Stuck(t, p, few)
 		putterIs(t, p, false, false)
-		step(t, p, all, stores(1, first+1, 0, entry(0, 1, 3)))
+		probe.Step(t, p, all, probe.Stores(1, first+1, 0, probe.Entry(0, 1, 3)))
 		putterIs(t, p, true, true)
 	}
 }
@@ -604,9 +505,9 @@ func TestNilMachines(t *testing.T) {
 	for _, w := range []*words.Words{nil, words.New(0), spread()} {
 		for range 2 {
 			takerIs(t, k, false, 0, 0, false)
-			still(t, k, w)
+			probe.Still(t, k, w)
 			putterIs(t, p, false, false)
-			still(t, p, w)
+			probe.Still(t, p, w)
 		}
 	}
 }
@@ -621,66 +522,66 @@ func TestZeroMachines(t *testing.T) {
 func TestSeesWhatIsThereThen(t *testing.T) {
 	w := laid(t, little, 0, 0, 0, 0)
 	k := NewTaker(little, 0, 1)
-	step(t, k, w, loads(0, 36, 0))
-	w.Put(36, entry(0, 3, 1)) // behind it: it does not look back
-	w.Put(38, entry(1, 4, 1)) // ahead of it: it was not there when the machine was made
-	step(t, k, w, loads(0, 37, 0))
-	step(t, k, w, loads(0, 38, entry(1, 4, 1)))
-	w.Put(38, entry(0, 5, 1)) // what is Found is what it saw
+	probe.Step(t, k, w, probe.Loads(0, 36, 0))
+	w.Put(36, probe.Entry(0, 3, 1)) // behind it: it does not look back
+	w.Put(38, probe.Entry(1, 4, 1)) // ahead of it: it was not there when the machine was made
+	probe.Step(t, k, w, probe.Loads(0, 37, 0))
+	probe.Step(t, k, w, probe.Loads(0, 38, probe.Entry(1, 4, 1)))
+	w.Put(38, probe.Entry(0, 5, 1)) // what is Found is what it saw
 	under(t, k)
-	step(t, k, w, stores(0, 38, entry(0, 5, 1), 0))
+	probe.Step(t, k, w, probe.Stores(0, 38, probe.Entry(0, 5, 1), 0))
 	takerIs(t, k, true, 1, 4, true)
-	w.Put(38, entry(0, 5, 1))
-	still(t, k, w)
+	w.Put(38, probe.Entry(0, 5, 1))
+	probe.Still(t, k, w)
 	takerIs(t, k, true, 1, 4, true)
 
 	w = laid(t, little, 0, 5, 0, 0)
 	p := NewPutter(little, 0, 1, 6, 1)
-	step(t, p, w, loads(0, 36, 5))
+	probe.Step(t, p, w, probe.Loads(0, 36, 5))
 	w.Put(36, 0)
 	w.Put(37, 7)
-	step(t, p, w, loads(0, 37, 7))
-	step(t, p, w, loads(0, 38, 0))
+	probe.Step(t, p, w, probe.Loads(0, 37, 7))
+	probe.Step(t, p, w, probe.Loads(0, 38, 0))
 	w.Put(38, 9) // it is a Store, not a Swap
-	step(t, p, w, stores(0, 38, 9, entry(1, 6, 1)))
+	probe.Step(t, p, w, probe.Stores(0, 38, 9, probe.Entry(1, 6, 1)))
 	putterIs(t, p, true, true)
 	w.Put(38, 0)
-	still(t, p, w)
+	probe.Still(t, p, w)
 	putterIs(t, p, true, true)
 }
 
 // R5: two machines of one client over one magazine; each knows only what it saw itself.
 func TestTwoMachinesOfOneClient(t *testing.T) {
-	a, b := entry(0, 3, 1), entry(1, 4, 1)
+	a, b := probe.Entry(0, 3, 1), probe.Entry(1, 4, 1)
 	w := laid(t, little, 0, a, b, 0)
 	one, other := NewTaker(little, 0, 1), NewTaker(little, 0, 1)
-	step(t, one, w, loads(0, 36, a))
-	step(t, other, w, loads(0, 36, a))
-	step(t, one, w, stores(0, 36, a, 0))
+	probe.Step(t, one, w, probe.Loads(0, 36, a))
+	probe.Step(t, other, w, probe.Loads(0, 36, a))
+	probe.Step(t, one, w, probe.Stores(0, 36, a, 0))
 	takerIs(t, one, true, 0, 3, true)
 	under(t, other)
-	step(t, other, w, stores(0, 36, 0, 0))
+	probe.Step(t, other, w, probe.Stores(0, 36, 0, 0))
 	takerIs(t, other, true, 0, 3, true)
 
 	w = laid(t, little, 0, a, b, 0)
 	one, other = NewTaker(little, 0, 1), NewTaker(little, 0, 1)
-	step(t, one, w, loads(0, 36, a))
-	step(t, one, w, stores(0, 36, a, 0))
-	step(t, other, w, loads(0, 36, 0))
-	step(t, other, w, loads(0, 37, b))
-	still(t, one, w)
-	step(t, other, w, stores(0, 37, b, 0))
+	probe.Step(t, one, w, probe.Loads(0, 36, a))
+	probe.Step(t, one, w, probe.Stores(0, 36, a, 0))
+	probe.Step(t, other, w, probe.Loads(0, 36, 0))
+	probe.Step(t, other, w, probe.Loads(0, 37, b))
+	probe.Still(t, one, w)
+	probe.Step(t, other, w, probe.Stores(0, 37, b, 0))
 	takerIs(t, one, true, 0, 3, true)
 	takerIs(t, other, true, 1, 4, true)
 
 	w = laid(t, little, 0, 0, 0, b)
 	k, p, q := NewTaker(little, 0, 1), NewPutter(little, 0, 0, 3, 1), NewPutter(little, 0, 1, 1, 3)
-	step(t, p, w, loads(0, 36, 0))
-	step(t, q, w, loads(0, 36, 0))
-	step(t, p, w, stores(0, 36, 0, a))
-	step(t, k, w, loads(0, 36, a))
-	step(t, q, w, stores(0, 36, a, entry(1, 1, 3)))
-	step(t, k, w, stores(0, 36, entry(1, 1, 3), 0))
+	probe.Step(t, p, w, probe.Loads(0, 36, 0))
+	probe.Step(t, q, w, probe.Loads(0, 36, 0))
+	probe.Step(t, p, w, probe.Stores(0, 36, 0, a))
+	probe.Step(t, k, w, probe.Loads(0, 36, a))
+	probe.Step(t, q, w, probe.Stores(0, 36, a, probe.Entry(1, 1, 3)))
+	probe.Step(t, k, w, probe.Stores(0, 36, probe.Entry(1, 1, 3), 0))
 	takerIs(t, k, true, 0, 3, true)
 	putterIs(t, p, true, true)
 	putterIs(t, q, true, true)
@@ -688,9 +589,9 @@ func TestTwoMachinesOfOneClient(t *testing.T) {
 
 // R5: machines of two clients take turns in each way there is, and each does what it does alone.
 func TestTurns(t *testing.T) {
-	a, b := entry(0, 3, 1), entry(1, 1, 3)
-	takers := []api.Access{loads(0, 36, 0), loads(0, 37, b), loads(0, 38, a), stores(0, 38, a, 0)}
-	putters := []api.Access{loads(1, 39, a), loads(1, 40, b), loads(1, 41, 0), stores(1, 41, 0, entry(1, 15, 0))}
+	a, b := probe.Entry(0, 3, 1), probe.Entry(1, 1, 3)
+	takers := []api.Access{probe.Loads(0, 36, 0), probe.Loads(0, 37, b), probe.Loads(0, 38, a), probe.Stores(0, 38, a, 0)}
+	putters := []api.Access{probe.Loads(1, 39, a), probe.Loads(1, 40, b), probe.Loads(1, 41, 0), probe.Stores(1, 41, 0, probe.Entry(1, 15, 0))}
 	for bits := range 1 << 8 {
 		w := laid(t, little, 0, 0, b, a)
 		for i, x := range []uint64{a, b, 0} {
@@ -701,12 +602,12 @@ func TestTurns(t *testing.T) {
 		for i := range 8 {
 			if len(right) == 0 || len(left) > 0 && bits>>i&1 == 0 {
 				under(t, k)
-				step(t, k, w, left[0])
+				probe.Step(t, k, w, left[0])
 				left = left[1:]
 				continue
 			}
 			putterIs(t, p, false, false)
-			step(t, p, w, right[0])
+			probe.Step(t, p, w, right[0])
 			right = right[1:]
 		}
 		takerIs(t, k, true, 0, 3, true)
@@ -716,11 +617,11 @@ func TestTurns(t *testing.T) {
 
 // R5: a machine goes from one row of words to another with what it has seen.
 func TestAnotherRowOfWords(t *testing.T) {
-	a := entry(0, 3, 1)
+	a := probe.Entry(0, 3, 1)
 	one, other := laid(t, little, 0, 0, a, 0), laid(t, little, 0, a, 5, 0)
 	k := NewTaker(little, 0, 1)
-	step(t, k, one, loads(0, 36, 0))
-	step(t, k, one, loads(0, 37, a))
-	step(t, k, other, stores(0, 37, 5, 0))
+	probe.Step(t, k, one, probe.Loads(0, 36, 0))
+	probe.Step(t, k, one, probe.Loads(0, 37, a))
+	probe.Step(t, k, other, probe.Stores(0, 37, 5, 0))
 	takerIs(t, k, true, 0, 3, true)
 }
